@@ -1,10 +1,9 @@
-// Package chain is what layers 8 and 9 have in common: things behind a head
-// that counts its writes, each of which links the next one.
+// Package chain is what layers 8 to 10 have in common: things, each of which
+// links the next one; and, for layers 8 and 9, a head ahead of them that counts
+// its writes.
 package chain
 
 import (
-	"math"
-
 	"knell/api"
 	"knell/cell"
 	"knell/step"
@@ -25,16 +24,22 @@ func (c Chain) Read(then func(old uint64, first int) step.Code) step.Code {
 	})
 }
 
-// Next reads which thing i links, or none.
+// Next reads which thing i links, or none. The cell of a thing that was taken
+// meanwhile may have anything; what no head can name is none, as nothing comes of
+// it: the head was written since.
 func (c Chain) Next(i int, then func(next int) step.Code) step.Code {
 	return step.Load(c.Cells, c.Link(i), func(link uint64) step.Code {
-		return then(following(link))
+		next := Linked(link)
+		if !canName(next) {
+			next = api.None
+		}
+		return then(next)
 	})
 }
 
 // Lay puts i ahead of all others, if the head is still what was read.
 func (c Chain) Lay(old uint64, i int, then func(ok bool) step.Code) step.Code {
-	return step.Store(c.Cells, c.Link(i), linkTo(word.HeadOf(old).Index), func() step.Code {
+	return step.Store(c.Cells, c.Link(i), LinkTo(word.HeadOf(old).Index), func() step.Code {
 		return c.Turn(old, i, then)
 	})
 }
@@ -52,54 +57,25 @@ func (c Chain) Take(old uint64, then func(ok bool) step.Code) step.Code {
 // was read, even if the same thing is first again.
 func (c Chain) Turn(old uint64, first int, then func(ok bool) step.Code) step.Code {
 	count := uint32(word.HeadOf(old).Count) + 1
-	// Both numbers go in: first is none, or comes from following, or past CanHave.
+	// Both numbers go in: first is none, or comes from Next, or past CanHave.
 	w, _ := word.Head{Count: int(count), Index: first}.Word()
 	return step.Cas(c.Cells, c.Head, old, w, then)
 }
 
-// List gives the things, the first one first, without a step. There are no more
-// things than cells, so that a ring of links ends, too.
+// List gives the things, the first one first, without a step.
 func (c Chain) List() []int {
 	cells := c.Cells.All()
-	var l []int
-	i := word.HeadOf(at(cells, c.Head)).Index
-	for range cells {
-		if i == api.None {
-			break
-		}
-		l = append(l, i)
-		i = following(at(cells, c.Link(i)))
-	}
-	return l
+	return Follow(cells, word.HeadOf(At(cells, c.Head)).Index, c.Link)
 }
 
 // CanHave tells whether i may be one of the things: the head can name it, and
 // it has a cell. Without a head there are none.
 func (c Chain) CanHave(i int) bool {
+	return i != api.None && canName(i) && AreCells(c.Cells, c.Head, c.Link(i))
+}
+
+// canName tells whether a head can name i, or none.
+func canName(i int) bool {
 	_, e := word.Head{Index: i}.Word()
-	return e == api.OK && i != api.None && c.isCell(c.Head) && c.isCell(c.Link(i))
-}
-
-// isCell tells whether there is such a cell.
-func (c Chain) isCell(i int) bool { return i >= 0 && i < c.Cells.Len() }
-
-// linkTo gives what the cell of a thing has, if that one is next, or none.
-func linkTo(next int) uint64 { return uint64(next + 1) }
-
-// following gives the thing that a link tells, or none. The cell of a thing that
-// was taken meanwhile may have anything; what no head can name is none, as
-// nothing comes of it: the head was written since.
-func following(link uint64) int {
-	if link > math.MaxUint32 {
-		return api.None
-	}
-	return int(link) - 1
-}
-
-// at gives what a cell has, and 0 for one that there isn't, as a Load does.
-func at(cells []uint64, i int) uint64 {
-	if i < 0 || i >= len(cells) {
-		return 0
-	}
-	return cells[i]
+	return e == api.OK
 }
