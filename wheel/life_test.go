@@ -196,8 +196,9 @@ func (b *life) follow(first int) []int {
 	return l
 }
 
-// hold holds the wheel against its model, and against P10.3: nothing that is due
-// by now stands in it; and nothing is due ahead of what Peek tells.
+// hold holds the wheel against its model, and against P10.3 and P10.4: nothing that
+// is due by now stands in it; and nothing is due ahead of what Peek tells, which is
+// later than now.
 func (b *life) hold() {
 	b.t.Helper()
 	l, cells := b.w.List(), b.w.Cells.All()
@@ -215,11 +216,8 @@ func (b *life) hold() {
 	}
 	for _, x := range l {
 		due := b.m.due[x.T]
-		if due <= b.now || due < peek {
+		if due <= b.now || due < peek || peek <= b.now {
 			b.t.Fatalf("at %d: %v is due at %d, Peek tells %d", b.now, x, due, peek)
-		}
-		if x.Level == 0 && peek < b.now+1 {
-			b.t.Fatalf("at %d: Peek tells %d", b.now, peek)
 		}
 	}
 }
